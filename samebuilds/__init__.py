@@ -1,0 +1,1 @@
+"""Samebuilds: the fewest things to hold fast so that a build comes out the same."""
