@@ -56,17 +56,28 @@ def all_texts(recipe, acts, world):
     return tuple(texts)
 
 
-def texts_in(recipe, acts, world):
-    """Return the tuple of the texts of all steps in a world."""
+def outcome_left(recipe, acts, world):
+    """Return the outcome in a world that is surely left by the acts."""
+    texts = all_texts(recipe, acts, world)
+    return tuple([texts[step] for step in recipe[2]])
+
+
+def check_left(recipe, acts, world):
+    """Raise an error if these are not a recipe, acts of it and a world that is left by them."""
     check_recipe(recipe)
     check_acts(recipe, acts)
     check_world(recipe, world)
     if not is_left(acts, world):
         raise NotLeft("the world is not left by the acts")
+
+
+def texts_in(recipe, acts, world):
+    """Return the tuple of the texts of all steps in a world."""
+    check_left(recipe, acts, world)
     return all_texts(recipe, acts, world)
 
 
 def outcome(recipe, acts, world):
     """Return the outcome in a world: the texts of the steps that are made."""
-    texts = texts_in(recipe, acts, world)
-    return tuple([texts[step] for step in recipe[2]])
+    check_left(recipe, acts, world)
+    return outcome_left(recipe, acts, world)

@@ -1,6 +1,6 @@
 """Recipes, their worlds and their acts: what counts as one, and which worlds there are."""
 
-from samebuilds.errors import InvalidActs, InvalidRecipe, InvalidWorld
+from samebuilds.errors import InvalidAct, InvalidActs, InvalidRecipe, InvalidWorld
 
 MOST_THINGS = 5
 MOST_TEXTS = 4
@@ -126,13 +126,18 @@ def check_recipe(value):
         raise InvalidRecipe("this is not a recipe")
 
 
-def worlds(recipe):
-    """Return the ascending list of all worlds of a recipe."""
-    check_recipe(recipe)
+def all_worlds(recipe):
+    """Return the ascending list of all worlds of what is surely a recipe."""
     found = [()]
     for thing in recipe[0]:
         found = [world + (text,) for world in found for text in range(len(thing))]
     return found
+
+
+def worlds(recipe):
+    """Return the ascending list of all worlds of a recipe."""
+    check_recipe(recipe)
+    return all_worlds(recipe)
 
 
 def is_world(recipe, value):
@@ -177,6 +182,12 @@ def is_act(recipe, value):
     if word == "pin":
         return is_pin(recipe, number, other)
     return word == "hide" and is_hiding(recipe, number, other)
+
+
+def check_act(recipe, value):
+    """Raise InvalidAct if value is not an act of a recipe."""
+    if not is_act(recipe, value):
+        raise InvalidAct("this is not an act of the recipe")
 
 
 def are_acts_of(recipe, value):

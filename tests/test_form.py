@@ -19,10 +19,27 @@ BUILTINS = {
     "len", "range", "enumerate", "zip", "min", "max", "sum", "abs", "sorted", "reversed", "int", "str", "bool", "list",
     "tuple", "dict", "set", "isinstance", "any", "all", "ValueError", "KeyError",
 }
-METHODS = {"append", "count", "find", "get", "index", "items", "join", "keys", "pop", "replace", "split", "values"}
+METHODS = {
+    "append", "count", "extend", "find", "get", "index", "items", "join", "keys", "pop", "replace", "setdefault", "split",
+    "values",
+}
 WORDS = re.compile(r"\b(type|typing|enum|open|input|law|mro|register|elements|id|vars|eval|exec|chr)\b")
+# The functions of the interface that are there, with their parameters, by the file under which it lists them.
 DEFINED = {
-    "errors": ["BuildError"], "recipes": ["is_recipe", "worlds", "are_acts"], "making": ["texts_in", "outcome"],
+    "recipes": {"is_recipe": ["value"], "worlds": ["recipe"], "are_acts": ["recipe", "value"]},
+    "making": {"texts_in": ["recipe", "acts", "world"], "outcome": ["recipe", "acts", "world"]},
+    "sameness": {
+        "worlds_left": ["recipe", "acts"], "is_same": ["recipe", "acts"], "first_parting": ["recipe", "acts"],
+        "classes": ["recipe", "acts"],
+    },
+    "offers": {
+        "are_offers": ["recipe", "value"], "price_of": ["recipe", "offers", "acts"],
+        "is_cure": ["recipe", "offers", "wish", "acts"], "touches": ["recipe", "act", "world"],
+    },
+    "cheapest": {
+        "least_price": ["recipe", "offers", "wish"], "all_cheapest": ["recipe", "offers", "wish"],
+        "sure_acts": ["recipe", "offers", "wish"],
+    },
 }
 
 
@@ -110,22 +127,44 @@ class Form(unittest.TestCase):
                     self.assertIsNone(WORDS.search(getattr(node, "id", "") + getattr(node, "arg", "")), path)
             self.assertNotIn("\t", text)
 
-    def test_the_interface_is_defined_where_it_is_listed(self):
-        trees = {path.stem: tree for path, _, tree in files()}
-        for stem, names in DEFINED.items():
-            defined = [node.name for node in trees[stem].body if isinstance(node, (ast.FunctionDef, ast.ClassDef))]
-            for name in names:
-                self.assertIn(name, defined)
-
-    def test_the_parameters_have_the_names_of_the_interface(self):
-        expected = {
-            "is_recipe": ["value"], "worlds": ["recipe"], "are_acts": ["recipe", "value"],
-            "texts_in": ["recipe", "acts", "world"], "outcome": ["recipe", "acts", "world"],
-        }
-        for _, _, tree in files():
+    def test_no_variable_has_the_name_of_a_function_a_class_or_an_import_of_its_file(self):
+        for path, _, tree in files():
+            barred = {node.name for node in tree.body if isinstance(node, (ast.FunctionDef, ast.ClassDef))}
             for node in tree.body:
-                if isinstance(node, ast.FunctionDef) and node.name in expected:
-                    self.assertEqual([one.arg for one in node.args.args], expected[node.name], node.name)
+                if isinstance(node, ast.ImportFrom):
+                    barred.update(alias.name for alias in node.names)
+            for node in ast.walk(tree):
+                if isinstance(node, ast.Name) and isinstance(node.ctx, ast.Store):
+                    self.assertNotIn(node.id, barred, (path, node.lineno))
+                elif isinstance(node, ast.arg):
+                    self.assertNotIn(node.arg, barred, (path, node.lineno))
+
+    def test_each_import_is_used(self):
+        for path, _, tree in files():
+            used = {node.id for node in ast.walk(tree) if isinstance(node, ast.Name)}
+            for node in tree.body:
+                if isinstance(node, ast.ImportFrom):
+                    for alias in node.names:
+                        self.assertIn(alias.name, used, path)
+
+    def test_no_two_files_import_from_each_other(self):
+        behind = {}
+        for path, _, tree in files():
+            names = [node.module for node in tree.body if isinstance(node, ast.ImportFrom)]
+            behind[path.stem] = {name.rsplit(".", 1)[1] for name in names}
+        while behind:
+            free = [stem for stem, needed in behind.items() if not needed & set(behind)]
+            self.assertTrue(free, behind)
+            for stem in free:
+                del behind[stem]
+
+    def test_the_interface_is_defined_where_it_is_listed_with_its_parameters(self):
+        trees = {path.stem: tree for path, _, tree in files()}
+        for stem, expected in DEFINED.items():
+            found = {node.name: node.args for node in trees[stem].body if isinstance(node, ast.FunctionDef)}
+            for name, parameters in expected.items():
+                self.assertEqual([one.arg for one in found[name].args], parameters, name)
+                self.assertEqual(found[name].defaults, [], name)
 
 
 if __name__ == "__main__":

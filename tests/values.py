@@ -6,6 +6,8 @@ TWO = (
     (1,),
 )
 
+OFF = ((("hide", 0, 1), 2), (("hide", 1, 0), 1), (("pin", 1, 0), 3))
+
 # Every operation, a thing that is read twice, one that no step reads, and made of three.
 WIDE = (
     (("a", "ab", "cab", "zz"), ("", "ba"), ("q",)),
@@ -23,12 +25,41 @@ WIDE = (
 )
 
 
+# Four things with four texts each, and so 256 worlds; the outcome is "y" in the last one alone. Steps 4 to 7 are not
+# made, and eight hidings there change nothing.
+LARGE = (
+    (("a", "b", "c", "d"),) * 4 + (("dddd",),),
+    (
+        ("join", (("thing", 0), ("thing", 1))),
+        ("join", (("thing", 2), ("thing", 3))),
+        ("join", (("step", 0), ("step", 1))),
+        ("same", (("step", 2), ("thing", 4))),
+        ("pick", (("thing", 0), ("thing", 1), ("thing", 2))),
+        ("pick", (("thing", 1), ("thing", 2), ("thing", 3))),
+        ("join", (("thing", 0), ("thing", 3))),
+        ("join", (("step", 4), ("step", 5))),
+    ),
+    (3,),
+)
+IDLE = (
+    (("hide", 4, 0), 1), (("hide", 4, 1), 2), (("hide", 4, 2), 1), (("hide", 5, 1), 1), (("hide", 5, 2), 3),
+    (("hide", 5, 3), 1), (("hide", 6, 0), 9), (("hide", 6, 3), 1),
+)
+
+
 def nested(depth, kind):
     """Return an empty tuple or list in others, this many levels deep."""
     value = kind()
     for _ in range(depth - 1):
         value = kind([value])
     return value
+
+
+def refused(test, error, call, *values):
+    """Let a test fail unless a call with these values raises exactly this error."""
+    with test.assertRaises(error, msg=repr(values)[:500]) as caught:
+        call(*values)
+    test.assertIs(type(caught.exception), error)
 
 
 class Strange:

@@ -1,0 +1,178 @@
+"""The points of the document once more, each as plainly as it is worded, to compare the program with."""
+
+import itertools
+import random
+
+TEXTS = ("", "a", "ab", "b", "ba", "c", "x", "xy", "y", "zzzz")
+TAKES = {"join": 2, "sort": 1, "turn": 1, "first": 1, "rest": 1, "less": 2, "same": 2, "pick": 3}
+MAKE = {
+    "join": lambda one, other: one + other,
+    "sort": lambda one: "".join(sorted(one)),
+    "turn": lambda one: "".join(reversed(one)),
+    "first": lambda one: one[0] if one else "",
+    "rest": lambda one: one[1:] if one else "",
+    "less": lambda one, other: "".join(letter for letter in one if letter not in set(other)),
+    "same": lambda one, other: "y" if one == other else "",
+    "pick": lambda one, other, third: other if one else third,
+}
+
+
+def plain_worlds(recipe):
+    """Return the ascending list of all worlds."""
+    return list(itertools.product(*(range(len(thing)) for thing in recipe[0])))
+
+
+def plain_left(recipe, acts):
+    """Return the ascending list of the worlds left."""
+    pins = [act for act in acts if act[0] == "pin"]
+    return [world for world in plain_worlds(recipe) if all(world[thing] == text for _, thing, text in pins)]
+
+
+def plain_texts(recipe, acts, world):
+    """Return the texts of all steps."""
+    texts = []
+    for step, (operation, reads) in enumerate(recipe[1]):
+        read = []
+        for word, number in reads:
+            if word == "step":
+                read.append(texts[number])
+            else:
+                read.append("" if ("hide", step, number) in acts else recipe[0][number][world[number]])
+        texts.append(MAKE[operation](*read))
+    return tuple(texts)
+
+
+def plain_outcome(recipe, acts, world):
+    """Return the outcome."""
+    texts = plain_texts(recipe, acts, world)
+    return tuple(texts[step] for step in recipe[2])
+
+
+def plain_parting(recipe, acts):
+    """Return the ascending list of all pairs of two ascending worlds that part."""
+    left = plain_left(recipe, acts)
+    made = {world: plain_outcome(recipe, acts, world) for world in left}
+    return [pair for pair in itertools.combinations(left, 2) if made[pair[0]] != made[pair[1]]]
+
+
+def plain_is_same(recipe, acts):
+    """Return whether a recipe is same."""
+    return bool(plain_left(recipe, acts)) and not plain_parting(recipe, acts)
+
+
+def plain_classes(recipe, acts):
+    """Return the ascending list of the tuples of an outcome and its class."""
+    left = plain_left(recipe, acts)
+    made = sorted({plain_outcome(recipe, acts, world) for world in left})
+    return [(one, [world for world in left if plain_outcome(recipe, acts, world) == one]) for one in made]
+
+
+def plain_bought(offers):
+    """Return all bought acts."""
+    acts = [act for act, _ in offers]
+    return [some for many in range(len(acts) + 1) for some in itertools.combinations(acts, many)]
+
+
+def plain_price(offers, acts):
+    """Return the price of bought acts."""
+    return sum(dict(offers)[act] for act in acts)
+
+
+def plain_short(recipe, wish, acts):
+    """Return the list of the worlds that fall short of a wish."""
+    return [world for world in plain_left(recipe, acts) if plain_outcome(recipe, acts, world) != wish]
+
+
+def plain_is_cure(recipe, wish, acts):
+    """Return whether bought acts are a cure."""
+    if wish is None:
+        return plain_is_same(recipe, acts)
+    return bool(plain_left(recipe, acts)) and not plain_short(recipe, wish, acts)
+
+
+def plain_touches(recipe, act, world):
+    """Return whether an act touches a world."""
+    word, number, other = act
+    if word == "pin":
+        return world[number] != other
+    return recipe[0][other][world[other]] != ""
+
+
+def plain_cures(recipe, offers, wish):
+    """Return the list of all cures."""
+    return [acts for acts in plain_bought(offers) if plain_is_cure(recipe, wish, acts)]
+
+
+def plain_cheapest(recipe, offers, wish):
+    """Return the least price of a cure, or None, and the ascending list of all cures with it."""
+    found = plain_cures(recipe, offers, wish)
+    least = min((plain_price(offers, acts) for acts in found), default=None)
+    return least, sorted(acts for acts in found if plain_price(offers, acts) == least)
+
+
+def all_acts(recipe):
+    """Return the ascending list of all acts that a recipe has."""
+    found = [("pin", thing, text) for thing in range(len(recipe[0])) for text in range(len(recipe[0][thing]))]
+    for step, (_, reads) in enumerate(recipe[1]):
+        found.extend({("hide", step, number) for word, number in reads if word == "thing"})
+    return sorted(found)
+
+
+def some_recipe(chance, most_worlds=24):
+    """Return a recipe with at most so many worlds."""
+    things = []
+    many = 1
+    for _ in range(chance.randint(1, 4)):
+        count = chance.choice((1, 2, 2, 2, 3, 4))
+        if many * count <= most_worlds:
+            things.append(tuple(sorted(chance.sample(TEXTS, count))))
+            many *= count
+    steps = []
+    for at in range(chance.randint(1, 6)):
+        operation = chance.choice(sorted(TAKES))
+        known = [("thing", number) for number in range(len(things))] + [("step", number) for number in range(at)]
+        steps.append((operation, tuple(chance.choice(known) for _ in range(TAKES[operation]))))
+    made = chance.sample(range(len(steps)), min(len(steps), chance.randint(1, 3)))
+    return (tuple(things), tuple(steps), tuple(sorted(made)))
+
+
+def some_acts(chance, recipe, most):
+    """Return at most so many acts of a recipe, mostly with one pin of a thing at most."""
+    acts = all_acts(recipe)
+    if chance.randint(0, 3) > 0:
+        wanted = {thing: chance.randrange(len(texts)) for thing, texts in enumerate(recipe[0])}
+        acts = [act for act in acts if act[0] == "hide" or act[2] == wanted[act[1]]]
+    return tuple(sorted(chance.sample(acts, min(len(acts), chance.randint(0, most)))))
+
+
+def some_offers(chance, recipe, most):
+    """Return at most so many offers of a recipe."""
+    return tuple((act, chance.randint(1, 3)) for act in some_acts(chance, recipe, most))
+
+
+def some_wish(chance, recipe):
+    """Return a wish that is mostly an outcome in some world, under some hidings or none."""
+    hidings = tuple(act for act in all_acts(recipe) if act[0] == "hide" and chance.randint(0, 2) == 0)
+    world = chance.choice(plain_worlds(recipe))
+    made = plain_outcome(recipe, hidings, world)
+    return chance.choice([None, None, None, made, made, plain_outcome(recipe, (), world), tuple("q" for _ in made)])
+
+
+def many_acts(count, seed):
+    """Return the list of so many pairs of a recipe and acts of it, the same at every call."""
+    chance = random.Random(seed)
+    found = []
+    for _ in range(count):
+        recipe = some_recipe(chance)
+        found.append((recipe, some_acts(chance, recipe, 5)))
+    return found
+
+
+def many_problems(count, seed, most=5):
+    """Return the list of so many triples of a recipe, offers and a wish, the same at every call."""
+    chance = random.Random(seed)
+    found = []
+    for _ in range(count):
+        recipe = some_recipe(chance)
+        found.append((recipe, some_offers(chance, recipe, most), some_wish(chance, recipe)))
+    return found
