@@ -1,6 +1,6 @@
 """Recipes, their worlds and their acts: what counts as one, and which worlds there are."""
 
-from samebuilds.errors import InvalidAct, InvalidActs, InvalidRecipe, InvalidWorld
+from samebuilds.errors import InvalidAct, InvalidActs, InvalidNumber, InvalidRecipe, InvalidWorld
 
 MOST_THINGS = 5
 MOST_TEXTS = 4
@@ -17,6 +17,12 @@ def is_number(value, least, most):
     """Return whether value is an integer from least to most."""
     # True and False are integers to Python, but not to the document.
     return isinstance(value, int) and not isinstance(value, bool) and least <= value <= most
+
+
+def check_number(value, least, most):
+    """Raise InvalidNumber if value is not an integer from least to most."""
+    if not is_number(value, least, most):
+        raise InvalidNumber("this is not an integer within its bounds")
 
 
 def is_tuple(value, least, most):

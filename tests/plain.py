@@ -110,6 +110,88 @@ def plain_cheapest(recipe, offers, wish):
     return least, sorted(acts for acts in found if plain_price(offers, acts) == least)
 
 
+def plain_reasons(recipe, offers, wish, price, acts):
+    """Return the list of all right reasons for bought acts in a paper for a price."""
+    found = [("unlike", pair) for pair in plain_parting(recipe, acts)]
+    found.extend([("unlike", pair[::-1]) for _, pair in found])
+    if wish is not None:
+        found.extend([("unlike", (world,)) for world in plain_short(recipe, wish, acts)])
+    if plain_price(offers, acts) >= price:
+        found.append(("dear",))
+    if not plain_left(recipe, acts):
+        found.append(("none",))
+    return found
+
+
+def plain_needed(recipe, offers, acts, reason):
+    """Return the set of the bought acts that must be there because of a reason for bought acts."""
+    found = set()
+    for act, _ in offers if reason[0] == "unlike" else ():
+        if act not in acts and any(plain_touches(recipe, act, world) for world in reason[1]):
+            found.add(tuple(sorted(acts + (act,))))
+    return found
+
+
+def plain_is_paper(recipe, offers, wish, price, value):
+    """Return whether a list of pairs of tuples is a paper for a price."""
+    there = [acts for acts, _ in value]
+    if there != sorted(set(there)) or () not in there or not set(there) <= set(plain_bought(offers)):
+        return False
+    for acts, reason in value:
+        if reason not in plain_reasons(recipe, offers, wish, price, acts):
+            return False
+        if not plain_needed(recipe, offers, acts, reason) <= set(there):
+            return False
+    return True
+
+
+def plain_pairs(recipe, offers):
+    """Return the set of the different pairs of price and classes of bought acts that leave a world."""
+    return {(plain_price(offers, acts), len(plain_classes(recipe, acts)))
+            for acts in plain_bought(offers) if plain_left(recipe, acts)}
+
+
+def plain_trades(recipe, offers):
+    """Return the ascending list of the trades."""
+    pairs = plain_pairs(recipe, offers)
+    return sorted(one for one in pairs if not any(
+        other != one and other[0] <= one[0] and other[1] <= one[1] for other in pairs))
+
+
+def plain_hanging(recipe, acts, thing, result):
+    """Return the ascending list of all pairs of worlds left, unlike in a thing alone, with unlike results."""
+    found = []
+    for one, other in itertools.product(plain_left(recipe, acts), repeat=2):
+        unlike = [at for at in range(len(one)) if one[at] != other[at]]
+        if unlike == [thing] and result(recipe, acts, one) != result(recipe, acts, other):
+            found.append((one, other))
+    return sorted(found)
+
+
+def plain_sets(recipe, world, other, right):
+    """Return the ascending list of the least sets of things, unlike in two worlds, for which a test holds."""
+    unlike = [at for at in range(len(world)) if world[at] != other[at]]
+    found = [set(some) for many in range(len(unlike) + 1) for some in itertools.combinations(unlike, many)]
+    found = [some for some in found if right(some)]
+    return sorted(tuple(sorted(some)) for some in found if not any(less < some for less in found))
+
+
+def plain_changing(recipe, world, other):
+    """Return the ascending list of the least changing sets."""
+    def changes(some):
+        there = tuple(other[at] if at in some else world[at] for at in range(len(world)))
+        return plain_outcome(recipe, (), there) != plain_outcome(recipe, (), world)
+    return plain_sets(recipe, world, other, changes)
+
+
+def plain_restoring(recipe, world, other):
+    """Return the ascending list of the least restoring sets."""
+    def restores(some):
+        there = tuple(world[at] if at in some else other[at] for at in range(len(world)))
+        return plain_outcome(recipe, (), there) == plain_outcome(recipe, (), world)
+    return plain_sets(recipe, world, other, restores)
+
+
 def all_acts(recipe):
     """Return the ascending list of all acts that a recipe has."""
     found = [("pin", thing, text) for thing in range(len(recipe[0])) for text in range(len(recipe[0][thing]))]

@@ -40,6 +40,17 @@ DEFINED = {
         "least_price": ["recipe", "offers", "wish"], "all_cheapest": ["recipe", "offers", "wish"],
         "sure_acts": ["recipe", "offers", "wish"],
     },
+    "papers": {
+        "paper": ["recipe", "offers", "wish", "price"], "is_paper": ["recipe", "offers", "wish", "price", "value"],
+    },
+    "budgets": {"fewest_classes": ["recipe", "offers", "budget"], "trades": ["recipe", "offers"]},
+    "hanging": {
+        "hangs_on": ["recipe", "acts"], "step_hangs_on": ["recipe", "acts", "step"],
+        "hanging_pair": ["recipe", "acts", "thing"],
+    },
+    "blame": {
+        "changing_sets": ["recipe", "world", "other"], "restoring_sets": ["recipe", "world", "other"],
+    },
 }
 
 

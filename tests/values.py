@@ -118,7 +118,8 @@ def spoiled(value):
         if isinstance(item, tuple):
             found.append((path, put_at(value, path, list(item))))
             found.append((path, put_at(value, path, item + (None,))))
-            found.append((path, put_at(value, path, item[:-1] + ([item[-1]],))))
+            if item:
+                found.append((path, put_at(value, path, item[:-1] + ([item[-1]],))))
     return found
 
 
