@@ -192,6 +192,87 @@ def plain_restoring(recipe, world, other):
     return plain_sets(recipe, world, other, restores)
 
 
+def plain_read(recipe, world, step):
+    """Return the tuple of the texts that a step reads."""
+    texts = plain_texts(recipe, (), world)
+    return tuple(texts[number] if word == "step" else recipe[0][number][world[number]]
+                 for word, number in recipe[1][step][1])
+
+
+def plain_again(recipe, world, other):
+    """Return the ascending list of the steps that are made again."""
+    return [step for step in range(len(recipe[1]))
+            if plain_read(recipe, world, step) != plain_read(recipe, other, step)]
+
+
+def plain_runs(recipe, some):
+    """Return the number of runs with all results kept."""
+    kept = []
+    for world in some:
+        for step in range(len(recipe[1])):
+            if (step, plain_read(recipe, world, step)) not in kept:
+                kept.append((step, plain_read(recipe, world, step)))
+    return len(kept)
+
+
+def plain_runs_one_by_one(recipe, some):
+    """Return the number of runs of worlds one after another with the results of the last one kept."""
+    again = [len(plain_again(recipe, some[at - 1], some[at])) for at in range(1, len(some))]
+    return len(recipe[1]) + sum(again)
+
+
+def plain_least_runs(recipe, some):
+    """Return the least number of runs of worlds one after another, and the first sequence with it."""
+    found = {}
+    for sequence in itertools.permutations(range(len(some))):
+        found[sequence] = plain_runs_one_by_one(recipe, [some[at] for at in sequence])
+    least = min(found.values())
+    return least, min(sequence for sequence in found if found[sequence] == least)
+
+
+def plain_column(recipe, step):
+    """Return the list of the texts that a step has in all worlds."""
+    return [plain_texts(recipe, (), world)[step] for world in plain_worlds(recipe)]
+
+
+def plain_leans(recipe, step):
+    """Return the set of the steps on which a step leans."""
+    read = {number for word, number in recipe[1][step][1] if word == "step"}
+    return read.union(*(plain_leans(recipe, number) for number in read))
+
+
+def plain_unused(recipe):
+    """Return the ascending list of the unused steps."""
+    used = set(recipe[2]).union(*(plain_leans(recipe, step) for step in recipe[2]))
+    return sorted(set(range(len(recipe[1]))) - used)
+
+
+def plain_models(recipe):
+    """Return the list of the models of all steps."""
+    columns = [plain_column(recipe, step) for step in range(len(recipe[1]))]
+    return [min(at for at in range(step + 1) if columns[at] == columns[step]) for step in range(len(columns))]
+
+
+def plain_without(recipe, gone):
+    """Return a recipe without one step that no other one reads, and that is not made."""
+    def number_anew(word, number):
+        return (word, number - 1 if word == "step" and number > gone else number)
+    steps = [(operation, tuple(number_anew(*reading) for reading in reads))
+             for at, (operation, reads) in enumerate(recipe[1]) if at != gone]
+    return (recipe[0], tuple(steps), tuple(number_anew("step", step)[1] for step in recipe[2]))
+
+
+def plain_trimmed(recipe):
+    """Return the trimmed recipe."""
+    first = plain_models(recipe)
+    steps = tuple((operation, tuple((word, first[number]) if word == "step" else (word, number)
+                                    for word, number in reads)) for operation, reads in recipe[1])
+    recipe = (recipe[0], steps, recipe[2])
+    while plain_unused(recipe):
+        recipe = plain_without(recipe, plain_unused(recipe)[-1])
+    return recipe
+
+
 def all_acts(recipe):
     """Return the ascending list of all acts that a recipe has."""
     found = [("pin", thing, text) for thing in range(len(recipe[0])) for text in range(len(recipe[0][thing]))]
@@ -209,13 +290,18 @@ def some_recipe(chance, most_worlds=24):
         if many * count <= most_worlds:
             things.append(tuple(sorted(chance.sample(TEXTS, count))))
             many *= count
+    return some_recipe_of(chance, tuple(things))
+
+
+def some_recipe_of(chance, things, most_steps=6):
+    """Return a recipe of these things with at most so many steps."""
     steps = []
-    for at in range(chance.randint(1, 6)):
+    for at in range(chance.randint(1, most_steps)):
         operation = chance.choice(sorted(TAKES))
         known = [("thing", number) for number in range(len(things))] + [("step", number) for number in range(at)]
         steps.append((operation, tuple(chance.choice(known) for _ in range(TAKES[operation]))))
     made = chance.sample(range(len(steps)), min(len(steps), chance.randint(1, 3)))
-    return (tuple(things), tuple(steps), tuple(sorted(made)))
+    return (things, tuple(steps), tuple(sorted(made)))
 
 
 def some_acts(chance, recipe, most):

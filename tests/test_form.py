@@ -51,6 +51,13 @@ DEFINED = {
     "blame": {
         "changing_sets": ["recipe", "world", "other"], "restoring_sets": ["recipe", "world", "other"],
     },
+    "again": {
+        "made_again": ["recipe", "world", "other"], "count_runs": ["recipe", "some"], "least_runs": ["recipe", "some"],
+    },
+    "alike": {"are_alike": ["one", "other"], "parting_world": ["one", "other"]},
+    "trimming": {
+        "constant_steps": ["recipe"], "unused_steps": ["recipe"], "models": ["recipe"], "trimmed": ["recipe"],
+    },
 }
 
 
