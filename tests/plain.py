@@ -273,6 +273,44 @@ def plain_trimmed(recipe):
     return recipe
 
 
+def plain_is_order(recipe, steps):
+    """Return whether a tuple of numbers of steps is an order."""
+    if sorted(steps) != list(range(len(recipe[1]))):
+        return False
+    place = {step: at for at, step in enumerate(steps)}
+    return all(place[number] < place[step] for step, (_, reads) in enumerate(recipe[1])
+               for word, number in reads if word == "step")
+
+
+def plain_orders(recipe):
+    """Return the ascending list of all orders."""
+    return [steps for steps in itertools.permutations(range(len(recipe[1]))) if plain_is_order(recipe, steps)]
+
+
+def plain_rounds(recipe, hands):
+    """Return the least number of rounds: the least number of pieces, in any order, that are rounds."""
+    best = len(recipe[1])
+    for steps in plain_orders(recipe):
+        # Each round of a row of steps takes as many of the next ones as it can.
+        rounds, there = 0, 0
+        while there < len(steps):
+            rounds, this = rounds + 1, []
+            while there < len(steps) and len(this) < hands and not any(
+                    ("step", number) in recipe[1][steps[there]][1] for number in this):
+                this.append(steps[there])
+                there += 1
+        best = min(best, rounds)
+    return best
+
+
+def plain_format(recipe):
+    """Return the text."""
+    things = ", ".join("|".join(text or "-" for text in thing) for thing in recipe[0])
+    steps = ", ".join(operation + "".join(" " + word[0] + str(number) for word, number in reads)
+                      for operation, reads in recipe[1])
+    return "; ".join((things, steps, ", ".join(map(str, recipe[2]))))
+
+
 def all_acts(recipe):
     """Return the ascending list of all acts that a recipe has."""
     found = [("pin", thing, text) for thing in range(len(recipe[0])) for text in range(len(recipe[0][thing]))]

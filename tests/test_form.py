@@ -13,7 +13,7 @@ STATEMENTS = (
 )
 BARRED = (
     ast.Set, ast.Lambda, ast.Yield, ast.YieldFrom, ast.Await, ast.NamedExpr, ast.JoinedStr, ast.Starred, ast.Div,
-    ast.MatMult, ast.AnnAssign, ast.Global, ast.Nonlocal,
+    ast.MatMult, ast.AnnAssign, ast.Global, ast.Nonlocal, ast.GeneratorExp,
 )
 BUILTINS = {
     "len", "range", "enumerate", "zip", "min", "max", "sum", "abs", "sorted", "reversed", "int", "str", "bool", "list",
@@ -58,6 +58,19 @@ DEFINED = {
     "trimming": {
         "constant_steps": ["recipe"], "unused_steps": ["recipe"], "models": ["recipe"], "trimmed": ["recipe"],
     },
+    "orders": {"is_order": ["recipe", "value"], "count_orders": ["recipe"], "least_rounds": ["recipe", "hands"]},
+    "texts": {"format_recipe": ["recipe"], "parse_recipe": ["text"]},
+    "desk": {},
+    "naive": {
+        "naive_is_same": ["recipe", "acts"], "naive_least_price": ["recipe", "offers", "wish"],
+        "naive_count_orders": ["recipe"],
+    },
+}
+# The methods of the one class of the interface beside the errors, with their parameters.
+DESK = {
+    "__init__": ["self", "recipe", "offers"], "__len__": ["self"], "__str__": ["self"], "__eq__": ["self", "other"],
+    "buy": ["self", "act"], "give_back": ["self", "act"], "acts": ["self"], "price": ["self"], "undo": ["self"],
+    "duplicate": ["self"],
 }
 
 
@@ -68,6 +81,22 @@ def files():
         text = path.read_text(encoding="utf-8")
         found.append((path, text, ast.parse(text)))
     return found
+
+
+def own_methods():
+    """Return the set of the names of the methods that classes of the package have."""
+    found = set()
+    for _, _, tree in files():
+        for node in ast.walk(tree):
+            if isinstance(node, ast.ClassDef):
+                found.update(row.name for row in node.body if isinstance(row, ast.FunctionDef))
+    return found
+
+
+def own_attributes():
+    """Return the set of the names of the attributes that are assigned somewhere in the package."""
+    return {node.attr for _, _, tree in files() for node in ast.walk(tree)
+            if isinstance(node, ast.Attribute) and isinstance(node.ctx, ast.Store)}
 
 
 class Form(unittest.TestCase):
@@ -123,6 +152,7 @@ class Form(unittest.TestCase):
                         self.assertIn(alias.name, defined[node.module], path)
 
     def test_only_known_builtins_and_methods(self):
+        own = own_methods() | own_attributes()
         for path, text, tree in files():
             known = set(BUILTINS)
             for node in ast.walk(tree):
@@ -139,7 +169,7 @@ class Form(unittest.TestCase):
                 if isinstance(node, ast.Name):
                     self.assertIn(node.id, known, path)
                 elif isinstance(node, ast.Attribute):
-                    self.assertIn(node.attr, METHODS, path)
+                    self.assertIn(node.attr, METHODS | own, path)
                     self.assertIsNone(WORDS.search(node.attr), path)
                 if isinstance(node, (ast.Name, ast.arg)):
                     self.assertIsNone(WORDS.search(getattr(node, "id", "") + getattr(node, "arg", "")), path)
@@ -183,6 +213,29 @@ class Form(unittest.TestCase):
             for name, parameters in expected.items():
                 self.assertEqual([one.arg for one in found[name].args], parameters, name)
                 self.assertEqual(found[name].defaults, [], name)
+
+    def test_the_desk_has_its_methods_in_the_class_itself(self):
+        trees = {path.stem: tree for path, _, tree in files()}
+        desk, = [node for node in trees["desk"].body if isinstance(node, ast.ClassDef) and node.name == "Desk"]
+        self.assertEqual(desk.bases + desk.decorator_list + desk.keywords, [])
+        found = {row.name: row.args for row in desk.body if isinstance(row, ast.FunctionDef)}
+        for name, parameters in DESK.items():
+            self.assertEqual([one.arg for one in found[name].args], parameters, name)
+            self.assertEqual(found[name].defaults, [], name)
+
+    def test_methods_and_attributes(self):
+        self.assertEqual(own_methods() & own_attributes(), set())
+        self.assertEqual((own_methods() | own_attributes()) & METHODS, set())
+        for name in own_methods() | own_attributes():
+            self.assertRegex(name, r"^(_?[a-z][a-z_]*|__init__|__eq__|__len__|__str__)$")
+            self.assertNotIn(name, dir(str) + dir(list) + dir(dict) + dir(int) if name[:2] != "__" else [])
+
+    def test_methods_that_show_or_compare_objects_only_return(self):
+        for path, _, tree in files():
+            for node in ast.walk(tree):
+                if isinstance(node, ast.FunctionDef) and node.name in ("__eq__", "__len__", "__str__"):
+                    self.assertIsInstance(node.body[0], ast.Return, path)
+                    self.assertEqual(len(node.body), 1, path)
 
 
 if __name__ == "__main__":

@@ -37,7 +37,7 @@ PAIR = (THINGS, (
 
 
 def many_recipes(count, seed):
-    """Return so many recipes, the same at every call; in half of them things have few texts, and more steps are alike."""
+    """Return so many recipes, the same at every call; in half of them things have few texts, and steps are alike."""
     chance = random.Random(seed)
     found = [some_recipe(chance) for _ in range(count // 2)]
     while len(found) < count:
